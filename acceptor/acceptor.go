@@ -1,5 +1,6 @@
 // Package acceptor is the acceptors: each answers messages by the rows that it
-// has, and has them in a log on a disk.
+// has, and has them in a log on a disk, from which it starts again when its power
+// has failed.
 package acceptor
 
 import (
@@ -10,13 +11,22 @@ import (
 	"mooring/record"
 )
 
-// Acceptor is one acceptor.
+// state is whether an acceptor acts on what comes.
+type state int
+
+const (
+	up state = iota
+	silent
+	down
+)
+
+// Acceptor is one acceptor. Its table is gone while it is down.
 type Acceptor struct {
 	number  int
 	compact int
 	disk    *disk.Disk
 	table   record.Table
-	silent  bool
+	state   state
 	report  func(api.Event)
 }
 
@@ -33,22 +43,43 @@ func New(c api.Config, number int, report func(api.Event)) *Acceptor {
 }
 
 // Table tells its rows by locks in rising order.
-func (a *Acceptor) Table() []api.Row { return a.table.Rows() }
+func (a *Acceptor) Table() ([]api.Row, api.Errno) {
+	if a.state == down {
+		return nil, api.ErrDown
+	}
+	return a.table.Rows(), api.OK
+}
 
 // Log tells the bytes of its log.
 func (a *Acceptor) Log() string { return a.disk.Read(logFile) }
 
-// Take acts on a message, unless the acceptor is silent.
-func (a *Acceptor) Take(m api.Message) {
-	if !a.silent {
-		a.silent = silences(a.act(m))
+// Take acts on a message, unless the acceptor is silent or down. It is the door
+// of the acceptor: however deep inside power fails, the call ends here.
+func (a *Acceptor) Take(m api.Message) (e api.Errno) {
+	if a.state != up {
+		return api.OK
 	}
+	defer func() {
+		switch v := recover().(type) {
+		case nil:
+		case disk.Outage:
+			a.crash(v.Keep)
+			e = api.ErrPower
+		default:
+			panic(v)
+		}
+	}()
+	a.heed(a.act(m))
+	return api.OK
 }
 
-// silences asks whether what ended a call is an append that did not fit.
-func silences(err error) bool {
+// heed makes the acceptor silent if what ended a call is an append that did not
+// fit.
+func (a *Acceptor) heed(err error) {
 	var fault *disk.Fault
-	return errors.Is(err, disk.ErrRoom) && errors.As(err, &fault) && fault.Step == disk.Appending
+	if errors.Is(err, disk.ErrRoom) && errors.As(err, &fault) && fault.Step == disk.Appending {
+		a.state = silent
+	}
 }
 
 func (a *Acceptor) act(m api.Message) error {
@@ -59,7 +90,7 @@ func (a *Acceptor) act(m api.Message) error {
 		}
 	}
 	a.send(answer, m)
-	if stores && a.records() > a.compact {
+	if stores && a.isLong() {
 		return a.compactLog()
 	}
 	return nil

@@ -23,7 +23,8 @@ func (a *Acceptor) store(r api.Row) error {
 	return nil
 }
 
-func (a *Acceptor) records() int { return len(a.Log()) / record.Size }
+// isLong tells whether the log has more records than it may keep.
+func (a *Acceptor) isLong() bool { return len(a.Log())/record.Size > a.compact }
 
 // compactLog puts a log of the table's rows in the place of the log. The old one
 // keeps its name until the new one is whole and synced.

@@ -13,9 +13,10 @@ type file struct {
 // Both may name one file, so what is done to it is seen under either name. A
 // step at a name that no file has does nothing.
 type Disk struct {
-	room  int
-	names map[string]*file
-	kept  map[string]*file
+	room    int
+	names   map[string]*file
+	kept    map[string]*file
+	failure *failure
 }
 
 // New makes a disk that has one file, empty, its name kept.
@@ -34,11 +35,15 @@ func (d *Disk) Read(name string) string {
 }
 
 // Create makes an empty file; what had its name has it no more.
-func (d *Disk) Create(name string) { d.names[name] = &file{} }
+func (d *Disk) Create(name string) {
+	d.step()
+	d.names[name] = &file{}
+}
 
 // Append puts bytes behind those of a file. If they do not fit it does nothing,
-// and the error is a Fault.
+// and the error is a Fault; it is a step all the same.
 func (d *Disk) Append(name, text string) error {
+	d.step()
 	f, ok := d.names[name]
 	if !ok {
 		return nil
@@ -62,6 +67,7 @@ func (d *Disk) fits(more int) error {
 
 // Sync syncs all bytes of a file.
 func (d *Disk) Sync(name string) {
+	d.step()
 	if f, ok := d.names[name]; ok {
 		f.synced = len(f.text)
 	}
@@ -69,6 +75,7 @@ func (d *Disk) Sync(name string) {
 
 // Rename gives a file a new name; what had that name has it no more.
 func (d *Disk) Rename(name, to string) {
+	d.step()
 	if f, ok := d.names[name]; ok {
 		delete(d.names, name)
 		d.names[to] = f
@@ -76,11 +83,15 @@ func (d *Disk) Rename(name, to string) {
 }
 
 // SyncNames keeps the names as they are.
-func (d *Disk) SyncNames() { d.kept = maps.Clone(d.names) }
+func (d *Disk) SyncNames() {
+	d.step()
+	d.kept = maps.Clone(d.names)
+}
 
 // Crash leaves the names that were kept, and of their files the bytes that were
-// synced and so many more.
+// synced and so many more. It leaves no failure that is to come.
 func (d *Disk) Crash(keep int) {
+	d.failure = nil
 	d.names = maps.Clone(d.kept)
 	for _, f := range d.names {
 		// keep may be so great that a sum with it would wrap round.

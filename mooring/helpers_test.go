@@ -48,7 +48,7 @@ func passes(t *testing.T, x *mooring.Mooring, client, ticks int) {
 
 // settle delivers all messages, in order, as they come.
 func settle(x *mooring.Mooring) {
-	for x.Deliver(0) == api.OK {
+	for x.Deliver(0) != api.ErrArg {
 	}
 }
 
@@ -201,12 +201,43 @@ func tableIs(t *testing.T, x *mooring.Mooring, acceptor int, want ...api.Row) {
 
 func logIs(t *testing.T, x *mooring.Mooring, acceptor int, want ...api.Row) {
 	t.Helper()
+	logIsText(t, x, acceptor, records(want...))
+}
+
+func records(rows ...api.Row) string {
 	s := ""
-	for _, r := range want {
+	for _, r := range rows {
 		s += mooring.Record(r)
 	}
-	if got, e := x.Log(acceptor); e != api.OK || got != s {
-		t.Errorf("Log(%d) = %q, %d\nwant %q", acceptor, got, e, s)
+	return s
+}
+
+// logIsText tells the bytes of a log that may be torn.
+func logIsText(t *testing.T, x *mooring.Mooring, acceptor int, want string) {
+	t.Helper()
+	if got, e := x.Log(acceptor); e != api.OK || got != want {
+		t.Errorf("Log(%d) = %q, %d\nwant %q", acceptor, got, e, want)
+	}
+}
+
+func fails(t *testing.T, x *mooring.Mooring, acceptor, steps, keep int) {
+	t.Helper()
+	answers(t, "Fail", x.Fail(acceptor, steps, keep), api.OK)
+}
+
+func starts(t *testing.T, x *mooring.Mooring, acceptor int) {
+	t.Helper()
+	answers(t, "Start", x.Start(acceptor), api.OK)
+}
+
+// goesDown and comesUp are events of an acceptor.
+func goesDown(acceptor int) api.Event { return api.Event{Kind: api.Down, Node: acceptor} }
+func comesUp(acceptor int) api.Event  { return api.Event{Kind: api.Up, Node: acceptor} }
+
+func isDown(t *testing.T, x *mooring.Mooring, acceptor int) {
+	t.Helper()
+	if rows, e := x.Table(acceptor); rows != nil || e != api.ErrDown {
+		t.Errorf("Table(%d) = %+v, %d, want that it is down", acceptor, rows, e)
 	}
 }
 
@@ -215,6 +246,7 @@ type view struct {
 	net    []api.Message
 	trace  []api.Event
 	tables [5][]api.Row
+	errors [5]api.Errno
 	logs   [5]string
 	busy   [4]bool
 	holds  [4][4]bool
@@ -223,7 +255,7 @@ type view struct {
 func look(x *mooring.Mooring) view {
 	v := view{net: x.Net(), trace: x.Trace(0)}
 	for i := range 5 {
-		v.tables[i], _ = x.Table(i)
+		v.tables[i], v.errors[i] = x.Table(i)
 		v.logs[i], _ = x.Log(i)
 	}
 	for i := range 4 {
@@ -242,7 +274,7 @@ func (v view) is(w view) bool {
 		}
 	}
 	return slices.Equal(v.net, w.net) && slices.Equal(v.trace, w.trace) &&
-		v.logs == w.logs && v.busy == w.busy && v.holds == w.holds
+		v.errors == w.errors && v.logs == w.logs && v.busy == w.busy && v.holds == w.holds
 }
 
 // value is a value that a client has made.

@@ -109,8 +109,9 @@ func takenOver(t *testing.T, x *mooring.Mooring, time *clocks, ticks int) bool {
 	return false
 }
 
-// TestNeverTwoHold: whatever happens to messages and clients.
+// TestNeverTwoHold: whatever happens to messages, clients and acceptors.
 func TestNeverTwoHold(t *testing.T) {
+	granted := 0
 	for seed := range 150 {
 		r := rand.New(rand.NewSource(int64(seed)))
 		c := with(func(c *api.Config) {
@@ -119,7 +120,6 @@ func TestNeverTwoHold(t *testing.T) {
 		})
 		x := moored(t, c)
 		time := newClocks(c.Clients, c.Drift)
-		granted := 0
 		for range 1500 {
 			happenAtRandom(x, r, time, c.Clients)
 			noneHoldWithAnother(t, x, c.Clients)
@@ -129,9 +129,9 @@ func TestNeverTwoHold(t *testing.T) {
 				granted++
 			}
 		}
-		if granted < 5 {
-			t.Errorf("seed %d: only %d operations were granted", seed, granted)
-		}
+	}
+	if granted < 1500 {
+		t.Errorf("only %d operations were granted", granted)
 	}
 }
 
@@ -155,6 +155,10 @@ func happenAtRandom(x *mooring.Mooring, r *rand.Rand, time *clocks, clients int)
 		} else if x.Return(client) == api.OK {
 			time.restart(client)
 		}
+	case n < 55:
+		x.Fail(r.Intn(5), r.Intn(12), r.Intn(30))
+	case n < 62:
+		x.Start(r.Intn(5))
 	default:
 		for range r.Intn(12) {
 			x.Deliver(r.Intn(3))

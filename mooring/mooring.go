@@ -106,11 +106,11 @@ func (x *Mooring) Deliver(i int) api.Errno {
 	x.remove(i)
 	switch m.Kind {
 	case api.Prepare, api.Accept:
-		x.acceptors[m.To].Take(m)
+		return x.acceptors[m.To].Take(m)
 	default:
 		x.clients[m.To].Take(m)
+		return api.OK
 	}
-	return api.OK
 }
 
 func (x *Mooring) remove(i int) { x.net = slices.Delete(x.net, i, i+1) }
@@ -134,10 +134,20 @@ func (x *Mooring) Copy(i int) api.Errno {
 }
 
 // Fail lets an acceptor's power fail (P8).
-func (x *Mooring) Fail(acceptor, steps, keep int) api.Errno { return api.OK }
+func (x *Mooring) Fail(acceptor, steps, keep int) api.Errno {
+	if !x.isAcceptor(acceptor) || steps < 0 || keep < 0 {
+		return api.ErrArg
+	}
+	return x.acceptors[acceptor].Fail(steps, keep)
+}
 
 // Start starts an acceptor again (P8).
-func (x *Mooring) Start(acceptor int) api.Errno { return api.OK }
+func (x *Mooring) Start(acceptor int) api.Errno {
+	if !x.isAcceptor(acceptor) {
+		return api.ErrArg
+	}
+	return x.acceptors[acceptor].Start()
+}
 
 // Lose loses a client (P9).
 func (x *Mooring) Lose(client int) api.Errno {
@@ -178,7 +188,7 @@ func (x *Mooring) Table(acceptor int) ([]api.Row, api.Errno) {
 	if !x.isAcceptor(acceptor) {
 		return nil, api.ErrArg
 	}
-	return x.acceptors[acceptor].Table(), api.OK
+	return x.acceptors[acceptor].Table()
 }
 
 // Log tells the bytes of an acceptor's log (P10).

@@ -31,6 +31,9 @@ func TestNewIsAllUpAndStill(t *testing.T) {
 				tableIs(t, x, i)
 				logIs(t, x, i)
 			}
+			for i := range 2*f + 1 {
+				answers(t, "Start of one that is up", x.Start(i), api.ErrUp)
+			}
 			for i := range clients {
 				answers(t, "Return of one that is up", x.Return(i), api.ErrUp)
 				busyIs(t, x, i, false)
@@ -42,6 +45,8 @@ func TestNewIsAllUpAndStill(t *testing.T) {
 			_, log := x.Log(2*f + 1)
 			answers(t, "Table of one too many", table, api.ErrArg)
 			answers(t, "Log of one too many", log, api.ErrArg)
+			answers(t, "Fail of one too many", x.Fail(2*f+1, 0, 0), api.ErrArg)
+			answers(t, "Start of one too many", x.Start(2*f+1), api.ErrArg)
 			answers(t, "Tick of one too many", x.Tick(clients), api.ErrArg)
 		}
 	}
@@ -69,6 +74,10 @@ func TestMooringsDoNotTouchOneAnother(t *testing.T) {
 	begins(t, x, 0, api.Release, 1, 0)
 	answers(t, "Lose", x.Lose(2), api.OK)
 	passes(t, x, 0, 3)
+	fails(t, x, 0, 0, 0)
+	fails(t, x, 1, 1, 0)
+	settle(x)
+	starts(t, x, 0)
 	if !look(y).is(ahead) || !look(z).is(still) {
 		t.Errorf("what is done to one mooring is seen in another")
 	}

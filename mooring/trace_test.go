@@ -101,6 +101,22 @@ func TestTableAndLogRefuse(t *testing.T) {
 	}
 }
 
+func TestTableOfOneThatIsDown(t *testing.T) {
+	x := moored(t, usual)
+	does(t, x, 0, api.Acquire, 0, 9)
+	v := value(0, 256, 9, 1)
+	fails(t, x, 2, 0, 0)
+	isDown(t, x, 2)
+	logIs(t, x, 2, api.Row{Promised: 256}, accepted(0, 256, v))
+	rows, e := x.Table(3)
+	if rows != nil || e != api.ErrArg {
+		t.Errorf("Table(3) = %+v, %d", rows, e)
+	}
+	tableIs(t, x, 1, accepted(0, 256, v))
+	starts(t, x, 2)
+	tableIs(t, x, 2, accepted(0, 256, v))
+}
+
 func TestReplayOfALogIsItsTable(t *testing.T) {
 	x := moored(t, with(func(c *api.Config) { c.Compact = 3 }))
 	for n := range 40 {
@@ -161,8 +177,10 @@ func TestListsStayAsTheyCameOut(t *testing.T) {
 		keptNet, keptTrace, keptRows := slices.Clone(net), slices.Clone(trace), slices.Clone(rows)
 		x.Copy(0)
 		x.Drop(0)
+		x.Fail(n%3, n%5, n)
 		settle(x)
 		does(t, x, 0, api.Release, n%4, 0)
+		x.Start(n % 3)
 		if !slices.Equal(net, keptNet) || !slices.Equal(trace, keptTrace) || !slices.Equal(rows, keptRows) {
 			t.Fatalf("a later call has changed a list")
 		}
@@ -181,6 +199,15 @@ func TestCallsOfAMooringEndAtAllNumbers(t *testing.T) {
 		}
 		for _, call := range []func(int) api.Errno{x.Tick, x.Copy, x.Deliver, x.Drop, x.Lose, x.Return} {
 			call(a)
+		}
+		for _, b := range oddNumbers {
+			x.Fail(a, b, a)
+			x.Fail(0, a, b)
+			x.Fail(1, b, a)
+			x.Start(a)
+			x.Start(b)
+			x.Begin(1, api.Query, 0, 0)
+			settle(x)
 		}
 		x.Busy(a)
 		x.Trace(a)
